@@ -1,0 +1,1 @@
+"""Lifehold: holdings held for lives whose days of death are half known."""
