@@ -27,10 +27,14 @@ def check_tie(many, tie):
         raise BadTie("a tie is of two unlike ones, with a least from -9999 to 9999")
 
 
-def check_ties(many, ties):
-    """Refuse BadCount, then BadTie."""
+def check_count(many):
     if not 1 <= many <= MOST_LIVES:
         raise BadCount("there are 1 to 10 lives")
+
+
+def check_ties(many, ties):
+    """Refuse BadCount, then BadTie."""
+    check_count(many)
     if len(ties) > MOST_TIES:
         raise BadTie("there are at most 80 ties")
     for tie in ties:
@@ -95,3 +99,31 @@ def true_gaps(many, ties):
     if not can_stand(rows):
         raise CantBe("no way keeps these ties")
     return rows
+
+
+def checked_gaps(many, ties):
+    """The gaps of all, of ties that are looked at first: BadCount, BadTie, CantBe."""
+    check_ties(many, ties)
+    return true_gaps(many, ties)
+
+
+def gaps_with(rows, ties):
+    """The gaps, with some ties more than those that come to these ones; None where they can't be.
+
+    These ties may also be of one with itself, and have any leasts.
+    """
+    for one, other, least in ties:
+        if rows[other][one] + least > 0:
+            return None
+        onward = [least + further for further in rows[other]]
+        # A tie more is of use once at most, between a gap to its one and a gap from its other on.
+        rows = [[max(row[k], row[one] + onward[k]) for k in range(len(row))] for row in rows]
+    return rows
+
+
+def earliest_days(rows):
+    return [row[BEGINNING] for row in rows[:BEGINNING]]
+
+
+def latest_days(rows):
+    return [-least for least in rows[BEGINNING][:BEGINNING]]

@@ -1,7 +1,10 @@
 """What ties come to together: whether they can be, why not, and what they leave open."""
 
 from lifehold.errors import NoLife
-from lifehold.ties import BEGINNING, all_gaps, bounds, can_stand, check_tie, check_ties, is_one, true_gaps
+from lifehold.ties import (
+    BEGINNING, all_gaps, bounds, can_stand, check_tie, check_ties, checked_gaps, earliest_days, is_one, latest_days,
+    true_gaps,
+)
 
 
 def can_be(many, ties):
@@ -60,23 +63,18 @@ def places_back(every, cause, one):
 
 def gap(many, ties, one, other):
     """The least number by which the one's day is greater than the other's."""
-    check_ties(many, ties)
-    rows = true_gaps(many, ties)
+    rows = checked_gaps(many, ties)
     if not is_one(many, one) or not is_one(many, other):
         raise NoLife("neither a life nor the beginning")
     return rows[one][other]
 
 
 def earliest(many, ties):
-    check_ties(many, ties)
-    rows = true_gaps(many, ties)
-    return [rows[life][BEGINNING] for life in range(many)]
+    return earliest_days(checked_gaps(many, ties))
 
 
 def latest(many, ties):
-    check_ties(many, ties)
-    rows = true_gaps(many, ties)
-    return [-rows[BEGINNING][life] for life in range(many)]
+    return latest_days(checked_gaps(many, ties))
 
 
 def bearing(many, ties, tie):

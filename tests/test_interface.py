@@ -2,6 +2,7 @@ import importlib
 import inspect
 import unittest
 
+RUN = ["start", "end"]
 FUNCTIONS = {
     "lifehold.spans": {"joined": ["spans"], "read_span": ["text"]},
     "lifehold.ways": {"way_fault": ["many", "ties", "days"]},
@@ -13,6 +14,29 @@ FUNCTIONS = {
         "gap": ["many", "ties", "one", "other"],
         "earliest": ["many", "ties"],
         "latest": ["many", "ties"],
+    },
+    "lifehold.rows": {
+        "holder": ["row", "days", "day"],
+        "turns": ["row", "days"] + RUN,
+        "in_holding": ["row", "days"] + RUN,
+    },
+    "lifehold.may": {
+        "may_hold": ["many", "ties", "row", "day"],
+        "surely": ["many", "ties", "row", "day"],
+        "shown": ["many", "ties", "row", "day", "life"],
+        "enders": ["many", "ties", "row", "day"],
+    },
+    "lifehold.reach": {
+        "days_of": ["many", "ties", "row", "life"] + RUN,
+        "sure_days": ["many", "ties", "row", "life"] + RUN,
+        "fewest_days": ["many", "ties", "row", "life"] + RUN,
+        "most_days": ["many", "ties", "row", "life"] + RUN,
+        "fewest_way": ["many", "ties", "row", "life"] + RUN,
+        "most_way": ["many", "ties", "row", "life"] + RUN,
+    },
+    "lifehold.beasts": {
+        "beasts": ["many", "ties", "row"] + RUN,
+        "beasts_ways": ["many", "ties", "row"] + RUN,
     },
 }
 METHODS = {
@@ -39,6 +63,10 @@ class TestInterface(unittest.TestCase):
                     function = getattr(importlib.import_module(module), name)
                     self.assertEqual(function.__module__, module)
                     self.assertEqual(names_of(function), arguments)
+                    if arguments[-2:] == RUN:
+                        self.assertEqual(function.__defaults__, (0, None))
+                    else:
+                        self.assertIsNone(function.__defaults__)
 
     def test_span_has_its_methods_itself(self):
         span = importlib.import_module("lifehold.spans").Span

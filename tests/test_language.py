@@ -106,6 +106,29 @@ class TestLanguage(unittest.TestCase):
                 if isinstance(node, ast.Name) and hasattr(builtins, node.id):
                     self.assertIn(node.id, GOOD_BUILTINS, file)
 
+    def test_no_name_of_an_import_or_a_class_stands_for_something_else(self):
+        for file, text, tree in self.each():
+            taken = [node.name for node in tree.body if isinstance(node, ast.ClassDef)]
+            for node in tree.body:
+                if isinstance(node, ast.ImportFrom):
+                    taken += [name.asname or name.name for name in node.names]
+            self.assertEqual(sorted(taken), sorted(set(taken)), file)
+            for function in ast.walk(tree):
+                if isinstance(function, ast.FunctionDef):
+                    self.assertEqual([name for name in defined_names(function) if name in taken], [], file)
+
+    def test_lambdas(self):
+        for file, text, tree in self.each():
+            lines = [node.lineno for node in ast.walk(tree) if isinstance(node, ast.Lambda)]
+            self.assertEqual(sorted(lines), sorted(set(lines)), file)
+
+    def test_defaults_are_plain(self):
+        for file, text, tree in self.each():
+            for node in ast.walk(tree):
+                if isinstance(node, ast.arguments):
+                    for plain in node.defaults + [each for each in node.kw_defaults if each is not None]:
+                        self.assertIsInstance(plain, ast.Constant, file)
+
     def test_methods(self):
         own = set(GOOD_UNDERSCORES)
         for file, text, tree in self.each():
