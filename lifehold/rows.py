@@ -14,9 +14,14 @@ def check_day(day):
         raise BadDay("a day is a number from 0 to 9999")
 
 
-def check_row(many, row):
+def check_unlike(row):
+    """Refuse BadRow of lives, by numbers or by names, that are too many, none, or not unlike."""
     if not 1 <= len(row) <= MOST_IN_ROW or len(set(row)) != len(row):
         raise BadRow("a row has 1 to 4 unlike lives")
+
+
+def check_row(many, row):
+    check_unlike(row)
     for life in row:
         if not 0 <= life < many:
             raise BadRow("a row has none but lives")

@@ -60,9 +60,13 @@ def joined(spans):
     return told
 
 
-def read_day(text):
+def are_figures(text):
     # int alone would take signs, blanks and strokes between the figures, too.
-    if len(text) != 4 or not all([sign in FIGURES for sign in text]):
+    return all([sign in FIGURES for sign in text])
+
+
+def read_day(text):
+    if len(text) != 4 or not are_figures(text):
         raise BadText(0)
     return int(text)
 

@@ -38,16 +38,26 @@ FUNCTIONS = {
         "beasts": ["many", "ties", "row"] + RUN,
         "beasts_ways": ["many", "ties", "row"] + RUN,
     },
+    "lifehold.present": {"ties_of": ["row", "names"], "said": ["row"]},
+    "lifehold.pages": {"page": ["manor"], "read": ["text"]},
 }
+# Of each class its methods, with what they are handed behind self.
 METHODS = {
-    "__init__": ["self", "first", "until"],
-    "__eq__": ["self", "other"],
-    "__len__": ["self"],
-    "__str__": ["self"],
-    "__repr__": ["self"],
-    "has": ["self", "day"],
-    "common": ["self", "other"],
-    "moved": ["self", "by"],
+    ("lifehold.spans", "Span"): {
+        "__init__": ["first", "until"], "__eq__": ["other"], "__len__": [], "__str__": [], "__repr__": [],
+        "has": ["day"], "common": ["other"], "moved": ["by"],
+    },
+    ("lifehold.manor", "Manor"): {
+        "__init__": [], "__eq__": ["other"], "__len__": [], "__repr__": [],
+        "life": ["name"], "let": ["name", "row", "day"], "put_in": ["holding", "life"],
+        "change": ["holding", "at", "life"], "give_up": ["holding", "day"], "present": ["row"],
+        "right": ["number", "row"], "strike": ["number"], "undo": [], "redo": [], "do": ["deed"], "twin": [],
+        "lives": [], "holdings": [], "row_of": ["holding"], "term": ["holding"], "presentments": [], "coming": [],
+        "past": [], "may": ["holding", "day"], "sure": ["holding", "day"], "shown": ["holding", "day", "life"],
+        "enders": ["holding", "day"], "days": ["holding", "life"], "certain": ["holding", "life"],
+        "held": ["holding", "life"], "beasts": ["holding"], "dies": ["life"], "bearing": ["row"], "why": ["row"],
+    },
+    ("lifehold.desk", "Desk"): {"__init__": [], "tell": ["line"]},
 }
 
 
@@ -68,12 +78,14 @@ class TestInterface(unittest.TestCase):
                     else:
                         self.assertIsNone(function.__defaults__)
 
-    def test_span_has_its_methods_itself(self):
-        span = importlib.import_module("lifehold.spans").Span
-        self.assertEqual(span.__module__, "lifehold.spans")
-        for name, arguments in METHODS.items():
-            with self.subTest(name=name):
-                self.assertEqual(names_of(vars(span)[name]), arguments)
+    def test_classes_have_their_methods_themselves(self):
+        for (module, title), methods in METHODS.items():
+            made = getattr(importlib.import_module(module), title)
+            self.assertEqual(made.__module__, module)
+            for name, arguments in methods.items():
+                with self.subTest(title=title, name=name):
+                    self.assertEqual(names_of(vars(made)[name]), ["self"] + arguments)
+                    self.assertIsNone(vars(made)[name].__defaults__)
 
     def test_errors_with_fields(self):
         errors = importlib.import_module("lifehold.errors")

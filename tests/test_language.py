@@ -138,6 +138,59 @@ class TestLanguage(unittest.TestCase):
                 if isinstance(node, ast.Call) and isinstance(node.func, ast.Attribute):
                     self.assertIn(node.func.attr, own | GOOD_METHODS, file)
 
+    def test_no_name_is_a_method_and_an_attribute(self):
+        methods, stored, loaded = set(), set(), set()
+        for file, text, tree in self.each():
+            for node in ast.walk(tree):
+                if isinstance(node, ast.ClassDef):
+                    methods.update(each.name for each in node.body if isinstance(each, ast.FunctionDef))
+                elif isinstance(node, ast.Attribute) and isinstance(node.ctx, ast.Store):
+                    stored.add(node.attr)
+                elif isinstance(node, ast.Attribute):
+                    loaded.add(node.attr)
+        self.assertEqual(methods & stored, set())
+        self.assertEqual(stored & GOOD_METHODS, set())
+        self.assertEqual((methods - GOOD_UNDERSCORES) & GOOD_METHODS, set())
+        self.assertEqual(loaded - stored - methods - GOOD_METHODS, set())
+
+    def test_methods_that_change_nothing(self):
+        for file, text, tree in self.each():
+            for node in ast.walk(tree):
+                if isinstance(node, ast.FunctionDef) and node.name in ("__eq__", "__repr__", "__str__", "__len__"):
+                    self.assertIsInstance(node.body[-1], ast.Return, (file, node.name))
+                    for each in ast.walk(node):
+                        self.assertNotIsInstance(each, (ast.Assign, ast.AugAssign, ast.AnnAssign), (file, node.name))
+
+    def test_module_level(self):
+        """Nothing but a docstring, imports, functions, classes, and names of plain values, each bound once."""
+        for file, text, tree in self.each():
+            bound = []
+            for node in tree.body:
+                if isinstance(node, (ast.FunctionDef, ast.ClassDef)):
+                    bound.append(node.name)
+                elif isinstance(node, ast.ImportFrom):
+                    bound += [name.asname or name.name for name in node.names]
+                elif isinstance(node, ast.Assign):
+                    self.assertEqual([target.__class__ for target in node.targets], [ast.Name], file)
+                    bound.append(node.targets[0].id)
+                else:
+                    self.assertTrue(node is tree.body[0] and isinstance(node, ast.Expr), (file, node.lineno))
+            self.assertEqual(sorted(bound), sorted(set(bound)), file)
+
+    def test_raises_and_handlers(self):
+        own = set()
+        for file, text, tree in self.each():
+            own.update(node.name for node in ast.walk(tree) if isinstance(node, ast.ClassDef))
+        for file, text, tree in self.each():
+            for node in ast.walk(tree):
+                if isinstance(node, ast.Raise):
+                    self.assertIsInstance(node.exc, ast.Call, (file, node.lineno))
+                    self.assertIn(ast.unparse(node.exc.func), own, (file, node.lineno))
+                elif isinstance(node, ast.ExceptHandler):
+                    caught = node.type.elts if isinstance(node.type, ast.Tuple) else [node.type]
+                    for each in caught:
+                        self.assertIn(ast.unparse(each), own, (file, node.lineno))
+
 
 if __name__ == "__main__":
     unittest.main()

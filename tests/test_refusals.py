@@ -124,7 +124,8 @@ class TestRefusals(RefusalCase):
         self.refused(BadTie, bearing, 2, [(0, 1, 0)] * 81, (0, 1, 0))
 
     def test_no_life(self):
-        for one, other in ((2, 0), (0, 2), (-2, 0), (0, -2), (FAR, 0), (0, -FAR), (2, 2), (-2, -2), (-1, 2), (FAR, FAR)):
+        pairs = [(2, 0), (0, 2), (-2, 0), (0, -2), (FAR, 0), (0, -FAR), (2, 2), (-2, -2), (-1, 2), (FAR, FAR)]
+        for one, other in pairs:
             self.refused(NoLife, gap, 2, [], one, other)
             self.refused(CantBe, gap, 2, CANT, one, other)
             self.refused(BadTie, gap, 2, [(0, 0, 0)], one, other)
