@@ -10,7 +10,7 @@ THINGS = {"on": (1, 1), "between": (1, 2), "alive": (1, 1), "after": (2, 1), "wi
 
 
 class Refused(Exception):
-    """A refusal, by the name of its class, with the numbers that Against could have been told of."""
+    """A refusal, by the name of its class."""
 
     def __init__(self, name):
         super().__init__(name)
